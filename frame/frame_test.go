@@ -389,7 +389,7 @@ func TestOneByteTurned(t *testing.T) {
 func TestOneByteTurnedOfTheLongest(t *testing.T) {
 	put, _ := Put(rising(api.MaxBody))
 	for place := range put {
-		if place == 1 || place == 2 || place%37 != 0 && place < len(put)-5 {
+		if place == 1 || place == 2 {
 			continue
 		}
 		for _, by := range []byte{0x01, 0x80, 0xff} {
@@ -405,29 +405,27 @@ func TestOneByteTurnedOfTheLongest(t *testing.T) {
 // P4.3: frames one behind the other are all got, up to one that is torn at whatever place.
 func TestUpToTorn(t *testing.T) {
 	var whole []byte
+	var texts []string
 	var ends []int
 	for _, text := range bodies() {
+		// Long ones would take long to be cut everywhere.
+		if len(text) > 300 {
+			continue
+		}
 		put, _ := Put([]byte(text))
 		whole = append(whole, put...)
+		texts = append(texts, text)
 		ends = append(ends, len(whole))
 	}
 	for cut := range len(whole) + 1 {
-		if cut%13 != 0 && !slices.Contains(ends, cut) && !slices.Contains(ends, cut+1) && !slices.Contains(ends, cut-1) {
-			continue
-		}
 		full, size := 0, 0
 		for full < len(ends) && ends[full] <= cut {
 			size = ends[full]
 			full++
 		}
 		l, n := All(whole[:cut])
-		if len(l) != full || n != size {
+		if n != size || !slices.EqualFunc(l, texts[:full], func(b []byte, s string) bool { return string(b) == s }) {
 			t.Fatalf("cut to %d: %d bodies, %d, want %d, %d", cut, len(l), n, full, size)
-		}
-		for i, body := range l {
-			if string(body) != bodies()[i] {
-				t.Fatalf("cut to %d: body %d is %.40x", cut, i, body)
-			}
 		}
 	}
 }
